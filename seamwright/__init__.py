@@ -1,0 +1,1 @@
+"""Webs put together of points, stretches, triangles and up, and their holes, by whole numbers."""
