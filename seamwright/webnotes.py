@@ -33,10 +33,16 @@ def read_piece(word):
 
 
 def read_point(figures):
-    if not 1 <= len(figures) <= MOST_FIGURES:
-        raise NoNote("a point has one or two figures")
+    return read_number(figures, MOST_FIGURES)
+
+
+# Python's int takes other signs too, and fails in its own way at some thousand figures; so all
+# is looked at ahead of it.
+def read_number(figures, most):
+    if not 1 <= len(figures) <= most:
+        raise NoNote("a number has no figures, or too many")
     if not all([sign in FIGURES for sign in figures]):
-        raise NoNote("a point is written by figures")
+        raise NoNote("a number is written by figures")
     if len(figures) > 1 and figures[0] == "0":
-        raise NoNote("a point has no nought ahead")
+        raise NoNote("a number has no nought ahead")
     return int(figures)

@@ -17,10 +17,14 @@ def is_web(web):
     return len(all_parts(web)) <= MOST_PIECES
 
 
-# The other functions come here for the pieces, so that each of them refuses what is no web.
-def pieces(web):
+def must_be_web(web):
     if not is_web(web):
         raise NoWeb("this list is no web")
+
+
+# The other functions come here for the pieces, so that each of them refuses what is no web.
+def pieces(web):
+    must_be_web(web)
     return all_parts(web)
 
 

@@ -1,4 +1,4 @@
-"""Webs for the tests, and what a web is, told anew by plain sets, to hold the program against."""
+"""Webs, chains and tables for the tests, and what a web is, told anew by plain sets, to hold the program against."""
 
 from itertools import combinations
 
@@ -84,3 +84,35 @@ def told_in_order(sets):
 
 def plain_greatest(sets):
     return told_in_order([piece for piece in sets if not any(piece < other for other in sets)])
+
+
+def varied_numbers(count, least, most, seed):
+    """So many numbers from least to most, the same each time for one seed."""
+    state = 7919 * (seed + 1)
+    told = []
+    for place in range(count):
+        state = (state * 6364136223846793005 + 1442695040888963407) % 2 ** 64
+        told.append(least + (state >> 24) % (most - least + 1))
+    return told
+
+
+def varied_chains(web, size, seed=0):
+    """Chains of a web whose pieces have so many points: of all of them, of some of them, with far weights."""
+    every = [piece for piece in told_in_order(plain_pieces(web)) if len(piece) == size]
+    told = []
+    for turn, reach in enumerate([1, 3, 10 ** 29]):
+        weights = varied_numbers(len(every), -reach, reach, 3 * seed + turn)
+        told.append({piece: weight for piece, weight in zip(reversed(every), weights) if weight != 0})
+    return told
+
+
+def webs_with_chains():
+    """Tuples of a web and some of its chains, of all heights that it has, and the nought chain."""
+    for seed, web in enumerate(all_webs()):
+        sizes = sorted({len(piece) for piece in plain_pieces(web)})
+        yield web, [{}] + [chain for size in sizes for chain in varied_chains(web, size, seed)]
+
+
+def varied_table(rows, columns, seed=0, reach=9):
+    numbers = varied_numbers(rows * columns, -reach, reach, seed)
+    return [numbers[k * columns:(k + 1) * columns] for k in range(rows)]

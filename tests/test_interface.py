@@ -1,7 +1,7 @@
 import inspect
 import unittest
 
-from seamwright import webnotes, webs
+from seamwright import chainnotes, chains, tables, webnotes, webs
 
 from samples import MIXED
 
@@ -12,6 +12,13 @@ FUNCTIONS = {
         "without": ["web", "piece"], "shares": ["web"], "is_same": ["one", "other"],
     },
     webnotes: {"shown": ["web"], "read": ["text"]},
+    chains: {
+        "is_chain": ["web", "chain"], "plus": ["web", "one", "other"], "times": ["web", "chain", "often"],
+        "seam": ["web", "chain"], "is_closed": ["web", "chain"], "weighed": ["web", "weights", "chain"],
+        "around": ["web", "piece"],
+    },
+    chainnotes: {"shown_chain": ["web", "chain"], "read_chain": ["web", "text"]},
+    tables: {"is_table": ["table"], "product": ["one", "other"], "turned_over": ["table"]},
 }
 
 
@@ -22,7 +29,7 @@ class Interface(unittest.TestCase):
                 told = list(inspect.signature(getattr(module, name)).parameters)
                 self.assertEqual(told, arguments, name)
 
-    def test_kinds(self):
+    def test_kinds_of_webs(self):
         for name in ["pieces", "greatest"]:
             told = getattr(webs, name)(MIXED)
             self.assertEqual({list}, {told.__class__})
@@ -42,6 +49,28 @@ class Interface(unittest.TestCase):
         self.assertEqual(str, webnotes.shown(MIXED).__class__)
         self.assertEqual(list, webnotes.read("1-2").__class__)
         self.assertEqual(tuple, webnotes.read("1-2")[0].__class__)
+
+    def test_kinds_of_chains(self):
+        chain = {(1, 2): 3, (2, 3): -4}
+        some = [
+            chains.plus(MIXED, chain, chain), chains.times(MIXED, chain, 5), chains.seam(MIXED, chain),
+            chains.around(MIXED, (3,)), chainnotes.read_chain(MIXED, "3*1-2 -4*2-3"),
+        ]
+        for told in some:
+            self.assertEqual(dict, told.__class__)
+            self.assertEqual({tuple}, {piece.__class__ for piece in told})
+            self.assertEqual({int}, {weight.__class__ for weight in told.values()})
+        for told in [chains.is_chain(MIXED, chain), chains.is_closed(MIXED, chain)]:
+            self.assertEqual(bool, told.__class__)
+        self.assertEqual(int, chains.weighed(MIXED, chain, chain).__class__)
+        self.assertEqual(str, chainnotes.shown_chain(MIXED, chain).__class__)
+
+    def test_kinds_of_tables(self):
+        table = [[1, 2], [3, 4]]
+        for told in [tables.product(table, table), tables.turned_over(table)]:
+            self.assertEqual({list}, {told.__class__} | {row.__class__ for row in told})
+            self.assertEqual({int}, {number.__class__ for row in told for number in row})
+        self.assertEqual(bool, tables.is_table(table).__class__)
 
 
 if __name__ == "__main__":

@@ -49,6 +49,7 @@ KEYWORDS = {
 }
 
 WALKED_AT_ONCE = ["zip", "enumerate", "reversed", "range"]
+WALKERS = ["list", "tuple", "dict", "sorted", "sum", "any", "all", "enumerate", "zip"]
 
 
 def files():
@@ -68,6 +69,29 @@ def drawn_from(path):
 
 def called(node):
     return node.func.id if isinstance(node.func, ast.Name) else None
+
+
+def nodes_and_parents():
+    for place, parent in nodes():
+        for node in ast.iter_child_nodes(parent):
+            yield f"{place}: {ast.dump(node)}", node, parent
+
+
+def is_walked(node, parent):
+    if isinstance(parent, (ast.For, ast.comprehension)):
+        return parent.iter is node
+    if not isinstance(parent, ast.Call) or parent.args[:1] != [node]:
+        return False
+    if isinstance(parent.func, ast.Attribute):
+        return parent.func.attr == "join" and isinstance(parent.func.value, ast.Constant)
+    return called(parent) in WALKERS or called(parent) in ["min", "max"] and len(parent.args) == 1
+
+
+def is_set(node):
+    if isinstance(node, ast.BinOp):
+        joined = isinstance(node.op, (ast.Sub, ast.BitAnd, ast.BitOr, ast.BitXor))
+        return joined and is_set(node.left) and is_set(node.right)
+    return isinstance(node, ast.Set) or isinstance(node, ast.Call) and called(node) in ["set", "frozenset"]
 
 
 class Files(unittest.TestCase):
@@ -202,13 +226,34 @@ class Code(unittest.TestCase):
                 plain = [repr(value.value) for value in beside if isinstance(value, ast.Constant)]
                 self.assertTrue(set(plain) & {"None", "True", "False"}, place)
 
-    def test_nothing_that_is_walked_is_kept(self):
-        """L23, L24"""
+    def test_what_is_walked_at_once(self):
+        """L23"""
+        for place, node, parent in nodes_and_parents():
+            method = isinstance(node, ast.Call) and isinstance(node.func, ast.Attribute) and node.func.attr
+            if isinstance(node, ast.Call) and (called(node) in WALKED_AT_ONCE or method in ["items", "keys", "values"]):
+                self.assertTrue(is_walked(node, parent), place)
+
+    def test_where_sets_stand(self):
+        """L24"""
+        for place, node, parent in nodes_and_parents():
+            if not is_set(node) or is_set(parent):
+                continue
+            if isinstance(parent, ast.Compare):
+                self.assertEqual(len(parent.ops), 1, place)
+                alike = isinstance(parent.ops[0], (ast.Eq, ast.NotEq)) and is_set(parent.left) and is_set(parent.comparators[0])
+                asked = isinstance(parent.ops[0], (ast.In, ast.NotIn)) and parent.comparators == [node]
+                self.assertTrue(alike or asked, place)
+            else:
+                self.assertIsInstance(parent, ast.Call, place)
+                self.assertIn(called(parent), ["sorted", "len"], place)
+                self.assertEqual((parent.args, parent.keywords), ([node], []), place)
+
+    def test_written_exponents(self):
+        """L27"""
         for place, node in nodes():
-            if isinstance(node, (ast.Assign, ast.Return)) and isinstance(node.value, ast.Call):
-                self.assertNotIn(called(node.value), WALKED_AT_ONCE + ["set", "frozenset"], place)
-                if isinstance(node.value.func, ast.Attribute):
-                    self.assertNotIn(node.value.func.attr, ["items", "keys", "values"], place)
+            if isinstance(node, ast.BinOp) and isinstance(node.op, ast.Pow):
+                self.assertIsInstance(node.right, ast.Constant, place)
+                self.assertIn(node.right.value, range(65), place)
 
 
 if __name__ == "__main__":
