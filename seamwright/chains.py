@@ -1,6 +1,6 @@
 """Chains of a web: whole weights on pieces of one height, their seams, and weights weighed on them."""
 
-from seamwright.errors import NoChain
+from seamwright.errors import NoChain, NotClosed
 from seamwright.parts import rims_of
 from seamwright.webs import pieces, pieces_about
 
@@ -49,6 +49,11 @@ def is_closed(web, chain):
     return len(seam(web, chain)) == 0
 
 
+def must_be_closed(web, chain):
+    if not is_closed(web, chain):
+        raise NotClosed("this chain is not closed")
+
+
 # Chains of unlike heights share no piece, so they weigh nought.
 def weighed(web, weights, chain):
     must_be_chain(web, weights)
@@ -78,3 +83,11 @@ def sum_of(terms):
         if sums[piece] != 0:
             told[piece] = sums[piece]
     return told
+
+
+def weights_on(some, chain):
+    return [chain.get(piece, 0) for piece in some]
+
+
+def chain_on(some, weights):
+    return sum_of(list(zip(some, weights)))

@@ -27,8 +27,11 @@ def product(one, other):
     must_be_table(other)
     if width_of(one) != len(other):
         raise NoTable("the second table has not as many rows as the first has columns")
-    columns = columns_of(other)
-    return [row_by(row, columns) for row in one]
+    return rows_by(one, columns_of(other))
+
+
+def rows_by(table, columns):
+    return [row_by(row, columns) for row in table]
 
 
 def row_by(row, columns):
@@ -45,7 +48,12 @@ def turned_over(table):
 
 
 def columns_of(table):
-    return [column_of(table, k) for k in range(width_of(table))]
+    return columns_to(table, width_of(table))
+
+
+# A list without rows doesn't tell how many columns are meant.
+def columns_to(table, width):
+    return [column_of(table, k) for k in range(width)]
 
 
 def column_of(table, k):

@@ -18,6 +18,46 @@ PLANE = [
     (0, 1, 2), (0, 2, 3), (0, 3, 4), (0, 4, 5), (0, 1, 5),
     (1, 2, 4), (2, 3, 5), (1, 3, 4), (2, 4, 5), (1, 3, 5),
 ]
+# Webs by their holes: spheres of the heights 3 and 4, rings that share a point, a web with a twisted hole of 2
+# beside a free one, two with a twisted hole of 2 each, one with it a height further up, and one with 3: there
+# the rim of a disk goes three times round the points 0, 1 and 2.
+SPHERE_OF_3 = list(combinations(range(5), 4))
+SPHERE_OF_4 = list(combinations(range(6), 5))
+TWO_RINGS = [(0, 1), (1, 2), (0, 2), (0, 3), (3, 4), (0, 4)]
+BOTTLE = [
+    (0, 1, 3), (0, 1, 7), (0, 2, 3), (0, 2, 5), (0, 5, 6), (0, 6, 7), (1, 2, 4), (1, 2, 8), (1, 3, 4),
+    (1, 7, 8), (2, 3, 8), (2, 4, 5), (3, 4, 6), (3, 6, 8), (4, 5, 7), (4, 6, 7), (5, 6, 8), (5, 7, 8),
+]
+TWO_PLANES = PLANE + [tuple(point + 6 for point in piece) for piece in PLANE]
+PLANE_FURTHER_UP = [piece + (point,) for piece in PLANE for point in (6, 7)]
+THREEFOLD = [
+    (0, 1, 3), (1, 2, 3), (0, 2, 4), (0, 1, 5), (1, 2, 5), (0, 2, 6), (0, 1, 7), (1, 2, 7), (0, 2, 8),
+    (2, 3, 4), (0, 4, 5), (2, 5, 6), (0, 6, 7), (2, 7, 8), (0, 3, 8),
+    (3, 5, 7), (3, 4, 5), (5, 6, 7), (3, 7, 8),
+]
+
+# How many holes of the heights 0 to 4 each has, and the twisted ones.
+HOLES = [
+    ("no pieces", EMPTY, [(0, []), (0, []), (0, []), (0, []), (0, [])]),
+    ("a point", POINT, [(1, []), (0, []), (0, []), (0, []), (0, [])]),
+    ("a stretch", STRETCH, [(1, []), (0, []), (0, []), (0, []), (0, [])]),
+    ("three parts apart", MIXED, [(3, []), (0, []), (0, []), (0, []), (0, [])]),
+    ("twenty points", TWENTY_POINTS, [(20, []), (0, []), (0, []), (0, []), (0, [])]),
+    ("eight parts apart", TWO_HUNDRED, [(8, []), (0, []), (0, []), (0, []), (0, [])]),
+    ("a ring", HOLLOW, [(1, []), (1, []), (0, []), (0, []), (0, [])]),
+    ("two rings", TWO_RINGS, [(1, []), (2, []), (0, []), (0, []), (0, [])]),
+    ("a disk", TRIANGLE, [(1, []), (0, []), (0, []), (0, []), (0, [])]),
+    ("a sphere", SPHERE, [(1, []), (0, []), (1, []), (0, []), (0, [])]),
+    ("a sphere of 3", SPHERE_OF_3, [(1, []), (0, []), (0, []), (1, []), (0, [])]),
+    ("a sphere of 4", SPHERE_OF_4, [(1, []), (0, []), (0, []), (0, []), (1, [])]),
+    ("a ball", FULL, [(1, []), (0, []), (0, []), (0, []), (0, [])]),
+    ("a torus", TORUS, [(1, []), (2, []), (1, []), (0, []), (0, [])]),
+    ("a plane", PLANE, [(1, []), (0, [2]), (0, []), (0, []), (0, [])]),
+    ("a bottle", BOTTLE, [(1, []), (1, [2]), (0, []), (0, []), (0, [])]),
+    ("two planes", TWO_PLANES, [(2, []), (0, [2, 2]), (0, []), (0, []), (0, [])]),
+    ("a plane further up", PLANE_FURTHER_UP, [(1, []), (0, []), (0, [2]), (0, []), (0, [])]),
+    ("threefold", THREEFOLD, [(1, []), (0, [3]), (0, []), (0, []), (0, [])]),
+]
 
 NO_WEBS = {
     "21 pieces": [(k,) for k in range(21)],
@@ -37,6 +77,37 @@ NO_WEBS = {
     "a tuple of no point": [()],
     "a tuple of no point among others": [(1, 2), ()],
     "six points": [(1, 2, 3, 4, 5, 6)],
+}
+
+# Of the web MIXED.
+NO_CHAINS = {
+    "a weight nought": {(1,): 0},
+    "a weight nought among others": {(1, 2): 1, (2, 3): 0, (1, 3): 4},
+    "two heights": {(1,): 1, (1, 2): 1},
+    "two heights, far apart": {(1, 2, 3): 1, (7,): 1},
+    "a piece that the web does not have": {(1, 4): 1},
+    "a point that the web does not have": {(1,): 1, (50,): 2},
+    "points falling": {(2, 1): 1},
+    "points alike": {(1, 1): 1},
+    "no points": {(): 1},
+    "no points among others": {(1,): 1, (): 1},
+    "a point that is none": {(100,): 1, (-1,): 1},
+    "six points": {(1, 2, 3, 4, 5, 6): 1},
+}
+
+NO_TABLES = {
+    "a longer row": [[1], [1, 2]],
+    "a shorter row": [[1, 2], [1]],
+    "a shorter row at the end": [[1, 2], [3, 4], [5]],
+    "a row without numbers behind one": [[1], []],
+    "a row without numbers ahead": [[], [1]],
+    "a longer row in the middle": [[1], [1, 2], [1]],
+    "41 rows": [[k] for k in range(41)],
+    "41 rows without numbers": [[] for k in range(41)],
+    "41 columns": [list(range(41))],
+    "41 columns in 40 rows": [[k] * 41 for k in range(40)],
+    "41 rows and columns": [[k] * 41 for k in range(41)],
+    "one row of 41 numbers": [[1] * 40, [1] * 41],
 }
 
 
@@ -113,6 +184,52 @@ def webs_with_chains():
         yield web, [{}] + [chain for size in sizes for chain in varied_chains(web, size, seed)]
 
 
+def plain_seam(chain):
+    """The seam, by the place of the point that a piece has more than its rim."""
+    told = {}
+    for piece, weight in chain.items():
+        for place, point in enumerate(piece):
+            rim = tuple(other for other in piece if other != point)
+            told[rim] = told.get(rim, 0) + (-1) ** place * weight
+    return {rim: weight for rim, weight in told.items() if weight and rim}
+
+
 def varied_table(rows, columns, seed=0, reach=9):
     numbers = varied_numbers(rows * columns, -reach, reach, seed)
     return [numbers[k * columns:(k + 1) * columns] for k in range(rows)]
+
+
+def width(table):
+    return len(table[0]) if table else 0
+
+
+def plain_product(one, other):
+    told = []
+    for k in range(len(one)):
+        told.append([])
+        for j in range(width(other)):
+            told[k].append(0)
+            for place in range(len(other)):
+                told[k][j] += one[k][place] * other[place][j]
+    return told
+
+
+def plain_slope(numbers, rows, columns):
+    return [[numbers[k] if j == k and k < len(numbers) else 0 for j in range(columns)] for k in range(rows)]
+
+
+def rank_by_prime(table, prime):
+    """The rank by a prime, by taking rows off one another."""
+    rows = [[number % prime for number in row] for row in table]
+    told = 0
+    for j in range(width(table)):
+        leads = [k for k in range(told, len(rows)) if rows[k][j]]
+        if not leads:
+            continue
+        rows[told], rows[leads[0]] = rows[leads[0]], rows[told]
+        turn = pow(rows[told][j], -1, prime)
+        for k in range(told + 1, len(rows)):
+            often = rows[k][j] * turn
+            rows[k] = [(number - often * top) % prime for number, top in zip(rows[k], rows[told])]
+        told += 1
+    return told

@@ -5,27 +5,12 @@ from seamwright.errors import NoChain, NoPiece, NoWeb
 from seamwright.webs import pieces
 
 from samples import (
-    EMPTY, FULL, HOLLOW, MIXED, NO_WEBS, PLANE, SPHERE, TORUS, TRIANGLE, TWO_HUNDRED, all_webs, webs_with_chains,
+    EMPTY, FULL, HOLLOW, MIXED, NO_CHAINS, NO_WEBS, PLANE, SPHERE, TORUS, TRIANGLE, TWO_HUNDRED, all_webs, plain_seam,
+    webs_with_chains,
 )
 
 RING = {(1, 2): 1, (2, 3): 1, (1, 3): -1}
 FAR = 10 ** 30 - 1
-
-# Of the web MIXED.
-NO_CHAINS = {
-    "a weight nought": {(1,): 0},
-    "a weight nought among others": {(1, 2): 1, (2, 3): 0, (1, 3): 4},
-    "two heights": {(1,): 1, (1, 2): 1},
-    "two heights, far apart": {(1, 2, 3): 1, (7,): 1},
-    "a piece that the web does not have": {(1, 4): 1},
-    "a point that the web does not have": {(1,): 1, (50,): 2},
-    "points falling": {(2, 1): 1},
-    "points alike": {(1, 1): 1},
-    "no points": {(): 1},
-    "no points among others": {(1,): 1, (): 1},
-    "a point that is none": {(100,): 1, (-1,): 1},
-    "six points": {(1, 2, 3, 4, 5, 6): 1},
-}
 
 # How many chains each of them is handed.
 OF_CHAINS = {"plus": 2, "weighed": 2, "times": 1, "seam": 1, "is_closed": 1, "is_chain": 1}
@@ -33,16 +18,6 @@ OF_CHAINS = {"plus": 2, "weighed": 2, "times": 1, "seam": 1, "is_closed": 1, "is
 
 def handed(function, *some):
     return some + (3,) if function == "times" else some
-
-
-def plain_seam(chain):
-    """The seam, by the place of the point that a piece has more than its rim."""
-    told = {}
-    for piece, weight in chain.items():
-        for place, point in enumerate(piece):
-            rim = tuple(other for other in piece if other != point)
-            told[rim] = told.get(rim, 0) + (-1) ** place * weight
-    return {rim: weight for rim, weight in told.items() if weight and rim}
 
 
 class IsChain(unittest.TestCase):

@@ -1,9 +1,9 @@
 import inspect
 import unittest
 
-from seamwright import chainnotes, chains, tables, webnotes, webs
+from seamwright import bounding, chainnotes, chains, holes, solving, steps, tables, webnotes, webs
 
-from samples import MIXED
+from samples import BOTTLE, HOLLOW, MIXED, TRIANGLE
 
 FUNCTIONS = {
     webs: {
@@ -19,7 +19,30 @@ FUNCTIONS = {
     },
     chainnotes: {"shown_chain": ["web", "chain"], "read_chain": ["web", "text"]},
     tables: {"is_table": ["table"], "product": ["one", "other"], "turned_over": ["table"]},
+    steps: {
+        "stepped": ["table"], "is_stepped": ["table", "paper"], "steps_of": ["table"], "rank": ["table"],
+        "rank_by": ["table", "prime"],
+    },
+    solving: {
+        "solved": ["table", "goal"], "shows_none": ["table", "goal", "weights", "number"],
+        "brought": ["table", "numbers"], "leaves": ["table"],
+    },
+    holes: {"holes": ["web", "height"], "rounds": ["web", "height"], "told_by": ["web", "height", "chain"]},
+    bounding: {
+        "bounds": ["web", "chain"], "shows": ["web", "chain", "weights", "number"],
+        "is_alike": ["web", "one", "other"],
+    },
 }
+
+
+def kinds(value):
+    """A value's kind with those of all that it holds, told by their names."""
+    name = value.__class__.__name__
+    if isinstance(value, dict):
+        return (name, [kinds(piece) for piece in value], [kinds(weight) for weight in value.values()])
+    if isinstance(value, (list, tuple)):
+        return (name, [kinds(inner) for inner in value])
+    return name
 
 
 class Interface(unittest.TestCase):
@@ -71,6 +94,49 @@ class Interface(unittest.TestCase):
             self.assertEqual({list}, {told.__class__} | {row.__class__ for row in told})
             self.assertEqual({int}, {number.__class__ for row in told for number in row})
         self.assertEqual(bool, tables.is_table(table).__class__)
+
+    def test_kinds_of_steps(self):
+        table = [[2, 0], [0, 0]]
+        square = ("list", [("list", ["int", "int"]), ("list", ["int", "int"])])
+        paper = steps.stepped(table)
+        self.assertEqual(kinds(paper), ("tuple", [square, square, square, square, ("list", ["int"])]))
+        self.assertEqual(kinds(steps.steps_of(table)), ("list", ["int"]))
+        self.assertEqual(kinds(steps.is_stepped(table, paper)), "bool")
+        self.assertEqual([kinds(steps.rank(table)), kinds(steps.rank_by(table, 2))], ["int", "int"])
+
+    def test_kinds_of_solving(self):
+        table = [[2, 0], [0, 0]]
+        row = ("list", ["int", "int"])
+        self.assertEqual(kinds(solving.solved(table, [2, 0])), ("tuple", ["str", row]))
+        self.assertEqual(kinds(solving.solved(table, [1, 1])), ("tuple", ["str", row, "int"]))
+        self.assertEqual(kinds(solving.shows_none(table, [1, 0], [1, 0], 2)), "bool")
+        self.assertEqual(kinds(solving.brought(table, [1, 0])), row)
+        self.assertEqual(kinds(solving.leaves(table)), ("list", [row]))
+
+    def test_kinds_of_holes(self):
+        self.assertEqual(kinds(holes.holes(BOTTLE, 1)), ("tuple", ["int", ("list", ["int"])]))
+        free, twisted = holes.rounds(BOTTLE, 1)
+        for chain in [free[0], twisted[0][0], twisted[0][2], holes.told_by(BOTTLE, 1, free[0])[2]]:
+            told = kinds(chain)
+            self.assertEqual(told[0], "dict")
+            self.assertLessEqual(set(told[2]), {"int"})
+            self.assertLessEqual({piece[0] for piece in told[1]}, {"tuple"})
+        told = kinds((free, [row[1] for row in twisted], twisted))
+        self.assertEqual([part[0] for part in told[1]], ["list", "list", "list"])
+        self.assertEqual(kinds(holes.told_by(BOTTLE, 1, {})), (
+            "tuple", [("list", ["int"]), ("list", ["int"]), ("dict", [], [])],
+        ))
+
+    def test_kinds_of_bounding(self):
+        ring = {(1, 2): 1, (2, 3): 1, (1, 3): -1}
+        piece = ("tuple", ["int", "int"])
+        told = kinds(bounding.bounds(TRIANGLE, ring))
+        self.assertEqual(told, ("tuple", ["str", ("dict", [("tuple", ["int", "int", "int"])], ["int"])]))
+        told = kinds(bounding.bounds(HOLLOW, ring))
+        self.assertEqual((told[0], told[1][0], told[1][2]), ("tuple", "str", "int"))
+        self.assertEqual((told[1][1][0], told[1][1][1][0]), ("dict", piece))
+        self.assertEqual(kinds(bounding.shows(HOLLOW, ring, {(1, 2): 1}, 0)), "bool")
+        self.assertEqual(kinds(bounding.is_alike(HOLLOW, ring, ring)), "bool")
 
 
 if __name__ == "__main__":

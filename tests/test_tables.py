@@ -3,7 +3,7 @@ import unittest
 from seamwright.errors import NoTable
 from seamwright.tables import is_table, product, turned_over
 
-from samples import varied_table
+from samples import NO_TABLES, plain_product, varied_table, width
 
 FAR = 10 ** 30 - 1
 
@@ -21,37 +21,7 @@ TABLES = {
     "40 rows and columns": varied_table(40, 40),
 }
 
-NO_TABLES = {
-    "a longer row": [[1], [1, 2]],
-    "a shorter row": [[1, 2], [1]],
-    "a shorter row at the end": [[1, 2], [3, 4], [5]],
-    "a row without numbers behind one": [[1], []],
-    "a row without numbers ahead": [[], [1]],
-    "a longer row in the middle": [[1], [1, 2], [1]],
-    "41 rows": [[k] for k in range(41)],
-    "41 rows without numbers": [[] for k in range(41)],
-    "41 columns": [list(range(41))],
-    "41 columns in 40 rows": varied_table(40, 41),
-    "41 rows and columns": varied_table(41, 41),
-    "one row of 41 numbers": [[1] * 40, [1] * 41],
-}
-
 SIZES = [0, 1, 2, 3, 5]
-
-
-def width(table):
-    return len(table[0]) if table else 0
-
-
-def plain_product(one, other):
-    told = []
-    for k in range(len(one)):
-        told.append([])
-        for j in range(width(other)):
-            told[k].append(0)
-            for place in range(len(other)):
-                told[k][j] += one[k][place] * other[place][j]
-    return told
 
 
 def some_tables():
