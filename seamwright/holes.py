@@ -37,11 +37,18 @@ def told_by(web, height, chain):
         raise NoChain("this chain is of another height")
     must_be_closed(web, chain)
     view = view_of(web, height)
+    sums = sums_by(view, pieces_of(web, height), chain)
+    filling = mix_of([total // step for total, step in zip(sums, view[2])], view[3])
+    return often_by(view, sums) + (chain_on(pieces_of(web, height + 1), filling),)
+
+
+def sums_by(view, here, chain):
+    return row_by(weights_on(here, chain), view[1])
+
+
+def often_by(view, sums):
     steps = view[2]
-    sums = row_by(weights_on(pieces_of(web, height), chain), view[1])
-    twisted = [total % step for total, step in zip(sums, steps) if step > 1]
-    filling = mix_of([total // step for total, step in zip(sums, steps)], view[3])
-    return (sums[len(steps):], twisted, chain_on(pieces_of(web, height + 1), filling))
+    return (sums[len(steps):], [total % step for total, step in zip(sums, steps) if step > 1])
 
 
 def must_be_height(height):

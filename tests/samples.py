@@ -35,6 +35,16 @@ THREEFOLD = [
     (2, 3, 4), (0, 4, 5), (2, 5, 6), (0, 6, 7), (2, 7, 8), (0, 3, 8),
     (3, 5, 7), (3, 4, 5), (5, 6, 7), (3, 7, 8),
 ]
+RING_OF_SIX = [(0, 1), (1, 2), (2, 3), (3, 4), (4, 5), (0, 5)]
+# A plane without a triangle, and one to which a triangle and a stretch are hung.
+BAND = PLANE[1:]
+HUNG = PLANE + [(0, 1, 6), (2, 9)]
+# Twelve triangles, no two of which share a stretch, so that each of the nine points lies with each other one in just
+# one of them. Behind the pushes at least 24 stretches are left.
+NET = [
+    (0, 1, 2), (3, 4, 5), (6, 7, 8), (0, 3, 6), (1, 4, 7), (2, 5, 8),
+    (0, 4, 8), (1, 5, 6), (2, 3, 7), (0, 5, 7), (1, 3, 8), (2, 4, 6),
+]
 
 # How many holes of the heights 0 to 4 each has, and the twisted ones.
 HOLES = [
@@ -57,6 +67,10 @@ HOLES = [
     ("two planes", TWO_PLANES, [(2, []), (0, [2, 2]), (0, []), (0, []), (0, [])]),
     ("a plane further up", PLANE_FURTHER_UP, [(1, []), (0, []), (0, [2]), (0, []), (0, [])]),
     ("threefold", THREEFOLD, [(1, []), (0, [3]), (0, []), (0, []), (0, [])]),
+    ("a ring of six", RING_OF_SIX, [(1, []), (1, []), (0, []), (0, []), (0, [])]),
+    ("a band", BAND, [(1, []), (1, []), (0, []), (0, []), (0, [])]),
+    ("a plane with more hung to it", HUNG, [(1, []), (0, [2]), (0, []), (0, []), (0, [])]),
+    ("a net", NET, [(1, []), (16, []), (0, []), (0, []), (0, [])]),
 ]
 
 NO_WEBS = {
@@ -233,3 +247,47 @@ def rank_by_prime(table, prime):
             rows[k] = [(number - often * top) % prime for number, top in zip(rows[k], rows[told])]
         told += 1
     return told
+
+
+def put_together(terms):
+    """The sum of chains, each so often, by tuples (often, chain)."""
+    told = {}
+    for often, chain in terms:
+        for piece, weight in chain.items():
+            told[piece] = told.get(piece, 0) + often * weight
+    return {piece: weight for piece, weight in told.items() if weight}
+
+
+def pieces_of_height(web, height):
+    return [piece for piece in told_in_order(plain_pieces(web)) if len(piece) == height + 1]
+
+
+def plain_table(web, height):
+    """A row for each piece of the height: its seam, or nothing."""
+    rims = pieces_of_height(web, height - 1)
+    seams = [plain_seam({piece: 1}) for piece in pieces_of_height(web, height)]
+    return [[seam.get(rim, 0) for rim in rims] for seam in seams]
+
+
+def holes_by_prime(web, height, prime):
+    ranks = [rank_by_prime(plain_table(web, high), prime) for high in [height, height + 1]]
+    return len(pieces_of_height(web, height)) - sum(ranks)
+
+
+def webs_with_holes():
+    return [list(web) for name, web, told in HOLES]
+
+
+def some_webs():
+    return all_webs()[12::4] + webs_with_holes()
+
+
+def plain_rims(piece):
+    """The pieces with one point less, as a set."""
+    return {rim for rim in combinations(piece, len(piece) - 1) if rim}
+
+
+def plain_pairs(web):
+    """All pairs of a web, in the order of their first pieces."""
+    told = [(rim, piece) for piece in told_in_order(plain_pieces(web)) for rim in plain_rims(piece)]
+    return sorted(told, key=lambda pair: (len(pair[0]), pair))

@@ -9,7 +9,8 @@ from seamwright.webs import greatest, shares
 from owned import Owned
 from samples import (
     BOTTLE, EMPTY, FULL, HOLES, HOLLOW, MIXED, NO_CHAINS, NO_WEBS, PLANE, PLANE_FURTHER_UP, POINT, SPHERE, THREEFOLD,
-    TORUS, TWO_PLANES, TWO_RINGS, all_webs, plain_pieces, plain_seam, rank_by_prime, told_in_order, varied_numbers,
+    TORUS, TWO_PLANES, TWO_RINGS, all_webs, holes_by_prime, pieces_of_height, plain_pieces, plain_seam, put_together,
+    some_webs, varied_numbers, webs_with_holes,
 )
 
 FAR = 10 ** 30 - 1
@@ -17,43 +18,10 @@ HEIGHTS = range(5)
 NO_HEIGHTS = [-1, 5, 6, -5, 100, FAR, -FAR]
 
 
-def put_together(terms):
-    """The sum of chains, each so often, by tuples (often, chain)."""
-    told = {}
-    for often, chain in terms:
-        for piece, weight in chain.items():
-            told[piece] = told.get(piece, 0) + often * weight
-    return {piece: weight for piece, weight in told.items() if weight}
-
-
-def pieces_of_height(web, height):
-    return [piece for piece in told_in_order(plain_pieces(web)) if len(piece) == height + 1]
-
-
-def plain_table(web, height):
-    """A row for each piece of the height: its seam, or nothing."""
-    rims = pieces_of_height(web, height - 1)
-    seams = [plain_seam({piece: 1}) for piece in pieces_of_height(web, height)]
-    return [[seam.get(rim, 0) for rim in rims] for seam in seams]
-
-
-def holes_by_prime(web, height, prime):
-    ranks = [rank_by_prime(plain_table(web, high), prime) for high in [height, height + 1]]
-    return len(pieces_of_height(web, height)) - sum(ranks)
-
-
 def a_seam(web, height, reach, seed):
     above = pieces_of_height(web, height + 1)
     weights = varied_numbers(len(above), -reach, reach, seed)
     return plain_seam({piece: weight for piece, weight in zip(above, weights) if weight})
-
-
-def webs_with_holes():
-    return [list(web) for name, web, told in HOLES]
-
-
-def some_webs():
-    return all_webs()[12::4] + webs_with_holes()
 
 
 class Holes(unittest.TestCase):

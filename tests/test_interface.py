@@ -1,9 +1,11 @@
 import inspect
 import unittest
 
-from seamwright import bounding, chainnotes, chains, holes, solving, steps, tables, webnotes, webs
+from seamwright import (
+    bounding, chainnotes, chains, holes, maps, pairing, pushing, solving, steps, tables, webnotes, webs,
+)
 
-from samples import BOTTLE, HOLLOW, MIXED, TRIANGLE
+from samples import BOTTLE, HOLLOW, MIXED, PLANE, STRETCH, TRIANGLE
 
 FUNCTIONS = {
     webs: {
@@ -31,6 +33,18 @@ FUNCTIONS = {
     bounding: {
         "bounds": ["web", "chain"], "shows": ["web", "chain", "weights", "number"],
         "is_alike": ["web", "one", "other"],
+    },
+    pushing: {
+        "free_pairs": ["web"], "pushed": ["web", "piece"], "pushes": ["web"], "is_pushed": ["web", "pairs", "other"],
+    },
+    pairing: {
+        "judged": ["web", "pairs"], "pairing": ["web"], "left_over": ["web", "pairs"],
+        "thin_seams": ["web", "pairs"],
+    },
+    maps: {
+        "is_map": ["web", "other", "names"], "image": ["web", "other", "names"],
+        "carried": ["web", "other", "names", "chain"], "behind": ["web", "middle", "last", "one", "other"],
+        "on_holes": ["web", "other", "names", "height"],
     },
 }
 
@@ -137,6 +151,41 @@ class Interface(unittest.TestCase):
         self.assertEqual((told[1][1][0], told[1][1][1][0]), ("dict", piece))
         self.assertEqual(kinds(bounding.shows(HOLLOW, ring, {(1, 2): 1}, 0)), "bool")
         self.assertEqual(kinds(bounding.is_alike(HOLLOW, ring, ring)), "bool")
+
+    def test_kinds_of_pushing(self):
+        point = ("tuple", ["int"])
+        pair = ("tuple", [point, ("tuple", ["int", "int"])])
+        self.assertEqual(kinds(pushing.free_pairs(STRETCH)), ("list", [pair, pair]))
+        self.assertEqual(kinds(pushing.pushed(STRETCH, (3,))), ("list", [point]))
+        told = pushing.pushes(STRETCH)
+        self.assertEqual(kinds(told), ("tuple", [("list", [pair]), ("list", [point])]))
+        self.assertEqual(kinds(pushing.is_pushed(STRETCH, told[0], told[1])), "bool")
+
+    def test_kinds_of_pairing(self):
+        point = ("tuple", ["int"])
+        pair = ("tuple", [point, ("tuple", ["int", "int"])])
+        row = [((1,), (1, 2)), ((2,), (2, 3)), ((3,), (1, 3))]
+        self.assertEqual(kinds(pairing.judged(HOLLOW, [])), ("tuple", ["str"]))
+        self.assertEqual(kinds(pairing.judged(HOLLOW, row[:1] * 2)), ("tuple", ["str", "int"]))
+        self.assertEqual(kinds(pairing.judged(HOLLOW, row)), ("tuple", ["str", ("list", [pair, pair, pair])]))
+        self.assertEqual(kinds(pairing.pairing(STRETCH)), ("list", [pair]))
+        told = kinds(pairing.left_over(STRETCH, []))
+        self.assertEqual(told, ("list", [point, point, ("tuple", ["int", "int"])]))
+        told = kinds(pairing.thin_seams(STRETCH, []))
+        chain = ("dict", [point, point], ["int", "int"])
+        self.assertEqual(told[1][0], ("tuple", [point, ("dict", [], [])]))
+        self.assertEqual((told[0], told[1][2]), ("list", ("tuple", [("tuple", ["int", "int"]), chain])))
+
+    def test_kinds_of_maps(self):
+        names = {1: 1, 2: 2, 3: 3}
+        self.assertEqual(kinds(maps.is_map(HOLLOW, TRIANGLE, names)), "bool")
+        self.assertEqual(kinds(maps.image(HOLLOW, TRIANGLE, names)), ("list", [("tuple", ["int", "int"])] * 3))
+        told = kinds(maps.carried(HOLLOW, TRIANGLE, names, {(1, 2): 1}))
+        self.assertEqual(told, ("dict", [("tuple", ["int", "int"])], ["int"]))
+        told = kinds(maps.behind(HOLLOW, HOLLOW, TRIANGLE, names, names))
+        self.assertEqual(told, ("dict", ["int"] * 3, ["int"] * 3))
+        told = kinds(maps.on_holes(PLANE, PLANE, {k: k for k in range(6)}, 1))
+        self.assertEqual(told, ("list", [("tuple", [("list", []), ("list", ["int"])])]))
 
 
 if __name__ == "__main__":
