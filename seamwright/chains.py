@@ -39,6 +39,10 @@ def times(web, chain, often):
 
 def seam(web, chain):
     must_be_chain(web, chain)
+    return seam_of(chain)
+
+
+def seam_of(chain):
     terms = []
     for piece in chain:
         terms.extend(seam_terms(piece, chain[piece]))

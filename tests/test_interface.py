@@ -2,7 +2,8 @@ import inspect
 import unittest
 
 from seamwright import (
-    bounding, chainnotes, chains, holes, maps, pairing, pushing, solving, steps, tables, webnotes, webs,
+    bars, bounding, building, chainnotes, chains, growing, holes, maps, pairing, prisms, pushing, solving, steps, tables,
+    webnotes, webs,
 )
 
 from samples import BOTTLE, HOLLOW, MIXED, PLANE, STRETCH, TRIANGLE
@@ -45,6 +46,19 @@ FUNCTIONS = {
         "is_map": ["web", "other", "names"], "image": ["web", "other", "names"],
         "carried": ["web", "other", "names", "chain"], "behind": ["web", "middle", "last", "one", "other"],
         "on_holes": ["web", "other", "names", "height"],
+    },
+    prisms: {"beside": ["web", "other", "one", "two"], "prism": ["web", "other", "one", "two", "chain"]},
+    growing: {
+        "is_order": ["order"], "order_by": ["web", "worths"], "worths_by_points": ["web", "ages"],
+        "web_at": ["order", "time"],
+    },
+    bars: {
+        "bars": ["order", "prime"], "paper": ["order", "prime"], "is_paper": ["order", "prime", "paper"],
+        "alive": ["order", "prime", "high", "time"], "lasting": ["order", "prime", "high", "early", "late"],
+        "bars_by": ["web", "worths", "prime"],
+    },
+    building: {
+        "both": ["one", "other"], "shared": ["one", "other"], "joined": ["one", "other"], "cone": ["web", "point"],
     },
 }
 
@@ -186,6 +200,44 @@ class Interface(unittest.TestCase):
         self.assertEqual(told, ("dict", ["int"] * 3, ["int"] * 3))
         told = kinds(maps.on_holes(PLANE, PLANE, {k: k for k in range(6)}, 1))
         self.assertEqual(told, ("list", [("tuple", [("list", []), ("list", ["int"])])]))
+
+    def test_kinds_of_prisms(self):
+        names = [{1: 1, 2: 2, 3: 3}, {1: 2, 2: 3, 3: 3}]
+        self.assertEqual(kinds(prisms.beside(HOLLOW, TRIANGLE, *names)), "bool")
+        told = kinds(prisms.prism(HOLLOW, TRIANGLE, *names, {(1,): 1}))
+        self.assertEqual(told, ("dict", [("tuple", ["int", "int"])], ["int"]))
+
+    def test_kinds_of_growing(self):
+        point = ("tuple", ["int"])
+        pair = ("tuple", ["int", "int"])
+        worths = growing.worths_by_points(STRETCH, {3: 1, 7: 0})
+        self.assertEqual(kinds(worths), ("dict", [point, point, pair], ["int"] * 3))
+        order = growing.order_by(STRETCH, worths)
+        self.assertEqual(kinds(order), ("list", [point, point, pair]))
+        self.assertEqual(kinds(growing.is_order(order)), "bool")
+        self.assertEqual(kinds(growing.web_at(order, 1)), ("list", [point, point]))
+
+    def test_kinds_of_bars(self):
+        order = [(7,), (3,), (3, 7)]
+        point = ("tuple", ["int"])
+        ends = [("dict", [point, point], ["int", "int"]), ("dict", [("tuple", ["int", "int"])], ["int"])]
+        rows = bars.paper(order, 3)
+        self.assertEqual(kinds(rows), ("list", [
+            ("tuple", ["int", "int", "NoneType", ("dict", [point], ["int"]), "NoneType"]),
+            ("tuple", ["int", "int", "int"] + ends),
+        ]))
+        told = ("list", [("tuple", ["int", "int", "NoneType"]), ("tuple", ["int", "int", "int"])])
+        self.assertEqual(kinds(bars.bars(order, 3)), told)
+        self.assertEqual(kinds(bars.bars_by(STRETCH, {(3,): 1, (7,): 0, (3, 7): 2}, 3)), told)
+        self.assertEqual(kinds(bars.is_paper(order, 3, rows)), "bool")
+        self.assertEqual([kinds(bars.alive(order, 3, 0, 1)), kinds(bars.lasting(order, 3, 0, 1, 2))], ["int", "int"])
+
+    def test_kinds_of_building(self):
+        pair = ("tuple", ["int", "int"])
+        self.assertEqual(kinds(building.both([(1, 2)], [(2, 3)])), ("list", [pair, pair]))
+        self.assertEqual(kinds(building.shared(HOLLOW, TRIANGLE)), ("list", [pair, pair, pair]))
+        self.assertEqual(kinds(building.joined([(1,)], [(2,), (3,)])), ("list", [pair, pair]))
+        self.assertEqual(kinds(building.cone([(1,)], 2)), ("list", [pair]))
 
 
 if __name__ == "__main__":

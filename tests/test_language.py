@@ -195,19 +195,21 @@ class Code(unittest.TestCase):
                 self.assertRegex(name, r"^[A-Za-z][A-Za-z0-9_]*$", place)
                 self.assertNotIn(name, UNUSED_NAMES, place)
 
-    def test_no_local_is_called_like_a_name_of_the_file(self):
+    def test_names_at_the_top_and_within(self):
         """L15"""
         for path in files():
             body = ast.parse(path.read_text()).body
+            drawn = [name for module, name in drawn_from(path)]
             tops = [row.name for row in body if isinstance(row, (ast.FunctionDef, ast.ClassDef))]
-            tops += [name for module, name in drawn_from(path)]
+            tops += [row.targets[0].id for row in body if isinstance(row, ast.Assign)] + drawn
             self.assertEqual(len(tops), len(set(tops)), path.name)
+            kept = [row.name for row in body if isinstance(row, ast.ClassDef)] + drawn
             for row in body:
                 if isinstance(row, ast.FunctionDef):
                     inner = [node.arg for node in ast.walk(row) if isinstance(node, ast.arg)]
                     stored = [node for node in ast.walk(row) if isinstance(node, ast.Name)]
                     inner += [node.id for node in stored if isinstance(node.ctx, ast.Store)]
-                    self.assertEqual(set(inner) & set(tops), set(), f"{path.name}: {row.name}")
+                    self.assertEqual(set(inner) & set(kept), set(), f"{path.name}: {row.name}")
 
     def test_methods_and_keywords(self):
         """L22, L25"""
